@@ -1,0 +1,1 @@
+"""Boughpress: texts pressed by all trees of elder signs at once."""
