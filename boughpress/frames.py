@@ -46,3 +46,9 @@ def checked(frame, text):
         if sign not in letters:
             raise NoText(f"{sign!r} is no letter of the frame")
     return text
+
+
+def rank(frame, text):
+    # Lists are ordered number by number, a beginning first: just as texts of letters are.
+    letters = frame[0]
+    return [letters.index(sign) for sign in text]

@@ -23,6 +23,22 @@ WORDS = re.compile(
     r"\b(type|typing|typing_extensions|enum|Enum|IntEnum|StrEnum|Flag|IntFlag|Generic|Protocol|ABC|ABCMeta"
     r"|namedtuple|NamedTuple|TypedDict|TYPE_CHECKING|abstractmethod)\b|dataclass|overload|contextmanager"
 )
+METHODS = set(
+    "append clear copy count endswith extend find get index insert isalnum isalpha isdigit islower isspace isupper "
+    "items join keys ljust lower lstrip partition pop remove replace reverse rfind rjust rpartition rsplit rstrip "
+    "setdefault split splitlines startswith strip update upper values zfill bit_length".split()
+)
+NOT_NAMES = set(
+    "register mro elements open input version_info with_traceback add_note attrgetter breakpoint builtins compile "
+    "copyright credits delattr dir eval exec exit gc getattr globals hasattr help id importlib license locals "
+    "methodcaller os quit setattr super type vars sys format format_map".split()
+)
+KEYWORDS = {
+    "sorted": {"key", "reverse"}, "min": {"key", "default"}, "max": {"key", "default"}, "sum": {"start"},
+    "enumerate": {"start"}, "zip": {"strict"},
+}
+WALKS = {"zip", "enumerate", "reversed", "range", "items", "keys", "values"}
+WALKERS = {"list", "tuple", "dict", "sorted", "sum", "any", "all", "enumerate", "zip", "min", "max", "join"}
 NODES = (
     ast.Module, ast.ImportFrom, ast.alias, ast.FunctionDef, ast.Lambda, ast.arguments, ast.arg, ast.ClassDef,
     ast.Assign, ast.AugAssign, ast.If, ast.While, ast.For, ast.Return, ast.Break, ast.Continue, ast.Pass,
@@ -41,6 +57,25 @@ def bound_names(tree):
             yield node.arg
         elif isinstance(node, ast.Name) and isinstance(node.ctx, ast.Store):
             yield node.id
+
+
+def called_name(node):
+    if isinstance(node, ast.Call):
+        return getattr(node.func, "id", getattr(node.func, "attr", None))
+    return None
+
+
+def own_members(trees):
+    """The names of the package's own methods, and of the values that its objects keep."""
+    methods = set()
+    values = set()
+    for tree in trees:
+        for node in ast.walk(tree):
+            if isinstance(node, ast.ClassDef):
+                methods.update(part.name for part in node.body if isinstance(part, ast.FunctionDef))
+            if isinstance(node, ast.Attribute) and isinstance(node.ctx, ast.Store):
+                values.add(node.attr)
+    return methods, values
 
 
 class LanguageTest(unittest.TestCase):
@@ -138,6 +173,58 @@ class LanguageTest(unittest.TestCase):
             for node in ast.walk(tree):
                 if isinstance(node, ast.Name) and hasattr(builtins, node.id):
                     self.assertIn(node.id, OWN_NAMES, f"row {node.lineno}")
+
+    def test_no_local_is_called_like_an_import_or_a_class(self):
+        for _, _, tree in self.each_file():
+            taken = {node.name for node in tree.body if isinstance(node, ast.ClassDef)}
+            for node in tree.body:
+                if isinstance(node, ast.ImportFrom):
+                    taken.update(alias.name for alias in node.names)
+            for node in ast.walk(tree):
+                if isinstance(node, ast.arg):
+                    self.assertNotIn(node.arg, taken)
+                if isinstance(node, ast.Name) and isinstance(node.ctx, ast.Store):
+                    self.assertNotIn(node.id, taken, f"row {node.lineno}")
+
+    def test_plain_words_as_names(self):
+        for _, _, tree in self.each_file():
+            for name in bound_names(tree):
+                if name not in TWO_UNDERSCORES:
+                    self.assertRegex(name, r"^[A-Za-z][A-Za-z0-9_]*$")
+                self.assertNotIn(name, NOT_NAMES)
+            for node in ast.walk(tree):
+                if isinstance(node, ast.Attribute):
+                    self.assertNotIn(node.attr, NOT_NAMES, f"row {node.lineno}")
+
+    def test_methods_and_values_of_objects(self):
+        methods, values = own_members(tree for _, _, tree in self.each_file())
+        self.assertEqual(methods & values, set())
+        of_python = {name for kind in (str, int, list, dict, set, tuple, bytes) for name in dir(kind)}
+        self.assertEqual((methods - TWO_UNDERSCORES) & of_python, set())
+        self.assertEqual(values & of_python, set())
+        for _, _, tree in self.each_file():
+            for node in ast.walk(tree):
+                if isinstance(node, ast.Attribute):
+                    self.assertIn(node.attr, METHODS | methods | values, f"row {node.lineno}")
+                if isinstance(node, ast.ClassDef):
+                    self.assertLessEqual(len(node.bases), 1)
+                    for part in node.body:
+                        self.assertIsInstance(part, (ast.FunctionDef, ast.Pass), f"row {part.lineno}")
+
+    def test_calls_and_walks(self):
+        for _, _, tree in self.each_file():
+            walked = set()
+            for node in ast.walk(tree):
+                if isinstance(node, (ast.For, ast.comprehension)):
+                    walked.add(node.iter)
+                if called_name(node) in WALKERS:
+                    walked.update(node.args)
+                if isinstance(node, ast.Call) and isinstance(node.func, ast.Name) and node.func.id in OWN_NAMES:
+                    for keyword in node.keywords:
+                        self.assertIn(keyword.arg, KEYWORDS.get(node.func.id, ()), f"row {node.lineno}")
+            for node in ast.walk(tree):
+                if called_name(node) in WALKS:
+                    self.assertIn(node, walked, f"row {node.lineno}")
 
     def test_names_are_bound_once_at_the_top(self):
         for _, _, tree in self.each_file():
