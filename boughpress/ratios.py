@@ -3,6 +3,8 @@
 from boughpress.errors import NoFraction
 from boughpress.frames import is_whole
 
+ONE = (1, 1)
+
 
 def greatest_divisor(one, other):
     while other != 0:
@@ -34,6 +36,17 @@ def times(one, other):
 
 def half(one):
     return fraction(one[0], 2 * one[1])
+
+
+def over(one, other):
+    return fraction(one[0] * other[1], one[1] * other[0])
+
+
+def product(many):
+    told = ONE
+    for one in many:
+        told = times(told, one)
+    return told
 
 
 def under(one, other):

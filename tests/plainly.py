@@ -85,3 +85,77 @@ def plain_worth(counts):
             told *= Fraction(2 * ahead[place] + 1, 2 * sum(ahead) + len(ahead))
             ahead[place] += 1
     return told
+
+
+def all_trees(frame, steps=None):
+    letters, depth = frame
+    steps = depth if steps is None else steps
+    if steps == 0:
+        return [None]
+    return [None, *product(all_trees(frame, steps - 1), repeat=len(letters))]
+
+
+def drawn_tree(source, frame, knot=""):
+    """A tree that branches less often the deeper it goes, so that it stays below 1,000 knots."""
+    letters, depth = frame
+    if len(knot) == depth or source.random() > 1.6 / len(letters):
+        return None
+    return tuple(drawn_tree(source, frame, knot + letter) for letter in letters)
+
+
+def drawn_trees(seed, frame, many):
+    source = random.Random(seed)
+    return [drawn_tree(source, frame) for _ in range(many)]
+
+
+def full_tree(frame, steps):
+    return None if steps == 0 else (full_tree(frame, steps - 1),) * len(frame[0])
+
+
+def tree_knots(frame, tree, knot=""):
+    """All knots of a tree, each with whether it is a leaf."""
+    told = [(knot, tree is None)]
+    if tree is not None:
+        for letter, branch in zip(frame[0], tree):
+            told += tree_knots(frame, branch, knot + letter)
+    return told
+
+
+def plain_price(frame, tree):
+    return len([knot for knot, _ in tree_knots(frame, tree) if len(knot) < frame[1]])
+
+
+def plain_leaves(frame, tree):
+    found = [knot for knot, is_leaf in tree_knots(frame, tree) if is_leaf]
+    return sorted(found, key=lambda knot: [frame[0].index(sign) for sign in knot])
+
+
+def plain_worth_by(frame, tree, text):
+    told = Fraction(1)
+    for leaf in plain_leaves(frame, tree):
+        told *= plain_worth(plain_counts(frame, text, leaf))
+    return told
+
+
+def plain_written(tree):
+    return "." if tree is None else "(" + "".join(plain_written(branch) for branch in tree) + ")"
+
+
+def plain_weight(frame, text, knot=""):
+    """The weight of a knot, by the words of point 13."""
+    counts = plain_counts(frame, text, knot)
+    if sum(counts) == 0:
+        return Fraction(1)
+    if len(knot) == frame[1]:
+        return plain_worth(counts)
+    branching = Fraction(1)
+    for letter in frame[0]:
+        branching *= plain_weight(frame, text, knot + letter)
+    return (plain_worth(counts) + branching) / 2
+
+
+def weight_over_trees(frame, text):
+    """The weight of a text, by the words of point 2."""
+    return sum(
+        Fraction(1, 2 ** plain_price(frame, tree)) * plain_worth_by(frame, tree, text) for tree in all_trees(frame)
+    )

@@ -59,6 +59,10 @@ def bound_names(tree):
             yield node.id
 
 
+def place_of(node):
+    return f"{node.file}, row {getattr(node, 'lineno', 0)}"
+
+
 def called_name(node):
     if isinstance(node, ast.Call):
         return getattr(node.func, "id", getattr(node.func, "attr", None))
@@ -80,10 +84,14 @@ def own_members(trees):
 
 class LanguageTest(unittest.TestCase):
     def each_file(self):
+        told = []
         for path in FILES:
             text = path.read_bytes().decode("utf-8")
-            with self.subTest(file=path.name):
-                yield path, text, ast.parse(text)
+            tree = ast.parse(text)
+            for node in ast.walk(tree):
+                node.file = path.name
+            told.append((path, text, tree))
+        return told
 
     def test_the_folder_holds_plain_python_files_alone(self):
         self.assertIn("__init__.py", [path.name for path in FILES])
@@ -133,9 +141,11 @@ class LanguageTest(unittest.TestCase):
     def test_statements_and_values(self):
         for _, _, tree in self.each_file():
             for node in ast.walk(tree):
-                where = f"row {getattr(node, 'lineno', 0)}"
+                where = place_of(node)
                 self.assertIsInstance(node, NODES, where)
                 self.assertNotIsInstance(node, (ast.Div, ast.MatMult), where)
+                if isinstance(node, ast.Expr) and node is not tree.body[0]:
+                    self.assertIsInstance(node.value, ast.Call, where)
                 if isinstance(node, ast.Assign):
                     self.assertEqual(len(node.targets), 1, where)
                 if isinstance(node, (ast.For, ast.While)):
@@ -154,15 +164,15 @@ class LanguageTest(unittest.TestCase):
         for _, _, tree in self.each_file():
             for node in ast.walk(tree):
                 if isinstance(node, ast.Constant):
-                    self.assertIn(type(node.value), (int, str, bool, type(None)), f"row {node.lineno}")
-                    self.assertNotIn("%", str(node.value), f"row {node.lineno}")
+                    self.assertIn(type(node.value), (int, str, bool, type(None)), place_of(node))
+                    self.assertNotIn("%", str(node.value), place_of(node))
                 if isinstance(node, ast.BinOp) and isinstance(node.op, ast.Pow):
-                    self.assertIsInstance(node.right, ast.Constant, f"row {node.lineno}")
-                    self.assertIn(node.right.value, range(65), f"row {node.lineno}")
+                    self.assertIsInstance(node.right, ast.Constant, place_of(node))
+                    self.assertIn(node.right.value, range(65), place_of(node))
                 if isinstance(node, ast.Compare):
                     for operator, right in zip(node.ops, node.comparators):
                         if isinstance(operator, (ast.Is, ast.IsNot)):
-                            self.assertIn(getattr(right, "value", 0), (None, True, False), f"row {node.lineno}")
+                            self.assertIn(getattr(right, "value", 0), (None, True, False), place_of(node))
 
     def test_names(self):
         for _, _, tree in self.each_file():
@@ -172,7 +182,7 @@ class LanguageTest(unittest.TestCase):
                     self.assertFalse(hasattr(builtins, name), name)
             for node in ast.walk(tree):
                 if isinstance(node, ast.Name) and hasattr(builtins, node.id):
-                    self.assertIn(node.id, OWN_NAMES, f"row {node.lineno}")
+                    self.assertIn(node.id, OWN_NAMES, place_of(node))
 
     def test_no_local_is_called_like_an_import_or_a_class(self):
         for _, _, tree in self.each_file():
@@ -184,7 +194,7 @@ class LanguageTest(unittest.TestCase):
                 if isinstance(node, ast.arg):
                     self.assertNotIn(node.arg, taken)
                 if isinstance(node, ast.Name) and isinstance(node.ctx, ast.Store):
-                    self.assertNotIn(node.id, taken, f"row {node.lineno}")
+                    self.assertNotIn(node.id, taken, place_of(node))
 
     def test_plain_words_as_names(self):
         for _, _, tree in self.each_file():
@@ -194,7 +204,7 @@ class LanguageTest(unittest.TestCase):
                 self.assertNotIn(name, NOT_NAMES)
             for node in ast.walk(tree):
                 if isinstance(node, ast.Attribute):
-                    self.assertNotIn(node.attr, NOT_NAMES, f"row {node.lineno}")
+                    self.assertNotIn(node.attr, NOT_NAMES, place_of(node))
 
     def test_methods_and_values_of_objects(self):
         methods, values = own_members(tree for _, _, tree in self.each_file())
@@ -205,11 +215,11 @@ class LanguageTest(unittest.TestCase):
         for _, _, tree in self.each_file():
             for node in ast.walk(tree):
                 if isinstance(node, ast.Attribute):
-                    self.assertIn(node.attr, METHODS | methods | values, f"row {node.lineno}")
+                    self.assertIn(node.attr, METHODS | methods | values, place_of(node))
                 if isinstance(node, ast.ClassDef):
                     self.assertLessEqual(len(node.bases), 1)
                     for part in node.body:
-                        self.assertIsInstance(part, (ast.FunctionDef, ast.Pass), f"row {part.lineno}")
+                        self.assertIsInstance(part, (ast.FunctionDef, ast.Pass), place_of(part))
 
     def test_calls_and_walks(self):
         for _, _, tree in self.each_file():
@@ -221,10 +231,10 @@ class LanguageTest(unittest.TestCase):
                     walked.update(node.args)
                 if isinstance(node, ast.Call) and isinstance(node.func, ast.Name) and node.func.id in OWN_NAMES:
                     for keyword in node.keywords:
-                        self.assertIn(keyword.arg, KEYWORDS.get(node.func.id, ()), f"row {node.lineno}")
+                        self.assertIn(keyword.arg, KEYWORDS.get(node.func.id, ()), place_of(node))
             for node in ast.walk(tree):
                 if called_name(node) in WALKS:
-                    self.assertIn(node, walked, f"row {node.lineno}")
+                    self.assertIn(node, walked, place_of(node))
 
     def test_names_are_bound_once_at_the_top(self):
         for _, _, tree in self.each_file():
