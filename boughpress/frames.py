@@ -40,6 +40,10 @@ def make_frame(letters, depth):
     return (letters, depth)
 
 
+def is_letter(frame, thing):
+    return is_sign(thing) and thing in frame[0]
+
+
 def checked(frame, text):
     letters = frame[0]
     for sign in text:

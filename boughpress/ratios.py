@@ -3,6 +3,7 @@
 from boughpress.errors import NoFraction
 from boughpress.frames import is_whole
 
+NOUGHT = (0, 1)
 ONE = (1, 1)
 
 

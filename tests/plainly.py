@@ -159,3 +159,27 @@ def weight_over_trees(frame, text):
     return sum(
         Fraction(1, 2 ** plain_price(frame, tree)) * plain_worth_by(frame, tree, text) for tree in all_trees(frame)
     )
+
+
+def tree_at(tree, frame, knot):
+    """The part of a tree at a knot; False where it has no such knot."""
+    for sign in knot:
+        if tree is None:
+            return False
+        tree = tree[frame[0].index(sign)]
+    return tree
+
+
+def plain_best(frame, text):
+    """The best of a text by the words of point 15, out of all trees of the frame."""
+    values = [
+        (Fraction(1, 2 ** plain_price(frame, tree)) * plain_worth_by(frame, tree, text), tree)
+        for tree in all_trees(frame)
+    ]
+    greatest = max(value for value, _ in values)
+    having = [tree for value, tree in values if value == greatest]
+    for knot in texts_to(frame[0], frame[1]):
+        as_leaf = [tree for tree in having if tree_at(tree, frame, knot) is None]
+        having = as_leaf or having
+    assert len(having) == 1
+    return (as_told(greatest), having[0])
