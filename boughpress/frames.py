@@ -7,11 +7,16 @@ PER_CENT = 37
 FEWEST_LETTERS = 2
 MOST_LETTERS = 6
 GREATEST_DEPTH = 6
+FIGURES = "0123456789"
 
 
 def is_whole(thing):
     # Python counts True and False among the ints; here they are no numbers.
     return isinstance(thing, int) and not isinstance(thing, bool)
+
+
+def are_figures(text):
+    return all([sign in FIGURES for sign in text])
 
 
 def is_sign(thing):
@@ -20,12 +25,14 @@ def is_sign(thing):
     return " " <= thing <= "~" and ord(thing) != PER_CENT
 
 
+def is_text(thing):
+    return isinstance(thing, str) and all([is_sign(sign) for sign in thing])
+
+
 def are_letters(thing):
-    if not isinstance(thing, str):
+    if not is_text(thing):
         return False
-    if not FEWEST_LETTERS <= len(thing) <= MOST_LETTERS:
-        return False
-    return len(set(thing)) == len(thing) and all([is_sign(sign) for sign in thing])
+    return FEWEST_LETTERS <= len(thing) <= MOST_LETTERS and len(set(thing)) == len(thing)
 
 
 def is_depth(thing):

@@ -183,3 +183,32 @@ def plain_best(frame, text):
         having = as_leaf or having
     assert len(having) == 1
     return (as_told(greatest), having[0])
+
+
+def plain_bits_of(low, width):
+    """The bits of a span by the words of point 18, each number of bits looked at from none on."""
+    size = 0
+    while True:
+        parts = 2 ** size
+        place = -((-low * parts) // 1)
+        if Fraction(place + 1, parts) <= low + width:
+            return format(place, "b").zfill(size) if size else ""
+        size += 1
+
+
+def plain_check(body):
+    rest = sum(ord(sign) * place for place, sign in enumerate(body, 1)) % 97
+    return "ABCDEFGHIJ"[rest // 10] + "ABCDEFGHIJ"[rest % 10]
+
+
+def plain_groups(bits):
+    bits += "0" * (-len(bits) % 5)
+    groups = [bits[at:at + 5] for at in range(0, len(bits), 5)]
+    return "".join("abcdefghijklmnopqrstuvwxyz234567"[int(group, 2)] for group in groups)
+
+
+def plain_packet(frame, many, groups):
+    """A packet with a right check over whatever is told."""
+    letters, depth = frame
+    body = f"{depth}{len(letters)}{letters}{many:03}{groups}"
+    return body + plain_check(body)

@@ -106,7 +106,5 @@ class BestTest(unittest.TestCase):
                 self.assertIs(type(refused.exception), NoText)
 
 
-
-
 if __name__ == "__main__":
     unittest.main()
