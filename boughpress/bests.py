@@ -13,7 +13,7 @@ def best_of_none(frame, knot):
     return (half(ONE), None)
 
 
-# The greatest that a tree has from the knot on, its price counted from there, and that tree.
+# The price is counted from the knot on, since each knot above it pays for itself.
 def best_from(frame, table, knot):
     if knot not in table:
         return best_of_none(frame, knot)

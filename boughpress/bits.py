@@ -8,8 +8,7 @@ def is_bits(thing):
     return isinstance(thing, str) and all([sign in "01" for sign in thing])
 
 
-# The number that bits write in twos.
-def number_of(bits):
+def number_in_twos(bits):
     told = 0
     for sign in bits:
         told *= 2
@@ -18,8 +17,7 @@ def number_of(bits):
     return told
 
 
-# A number written in twos by so many bits.
-def in_twos(number, many):
+def bits_in_twos(number, many):
     signs = []
     for turn in range(many):
         signs.append("01"[number % 2])
@@ -33,11 +31,11 @@ def stretch(bits):
     parts = 1
     for sign in bits:
         parts *= 2
-    return (fraction(number_of(bits), parts), fraction(1, parts))
+    return (fraction(number_in_twos(bits), parts), fraction(1, parts))
 
 
-# The first place, of so many equal parts from 0 to 1, that begins no earlier than the low.
 def first_place(low, parts):
+    # Rounded up, since a stretch that lies in a span begins no earlier than it.
     return (low[0] * parts + low[1] - 1) // low[1]
 
 
@@ -53,4 +51,4 @@ def bits_of(low, width):
     while (first_place(low, parts) + 1) * end[1] > end[0] * parts:
         many += 1
         parts *= 2
-    return in_twos(first_place(low, parts), many)
+    return bits_in_twos(first_place(low, parts), many)

@@ -8,8 +8,7 @@ from boughpress.packets import unwrap, wrap
 from boughpress.press import press, read
 from boughpress.treenotes import show_tree
 
-# How many words each row has, by its first one.
-ROWS = {
+ROW_SIZES = {
     "frame": 4, "learn": 3, "back": 3, "held": 2, "weight": 2, "chance": 3, "tree": 2, "press": 3, "read": 4,
     "wrap": 2, "unwrap": 3,
 }
@@ -23,7 +22,7 @@ def words_of(row):
     if not is_text(row):
         raise NoRow("a row is a text")
     words = row.split(" ")
-    if ROWS.get(words[0]) != len(words):
+    if ROW_SIZES.get(words[0]) != len(words):
         raise NoRow("there is no such row")
     return words
 

@@ -16,7 +16,7 @@ def raised(counts, place):
     return told
 
 
-# Each knot in which a place falls has an entry: a tuple (counts, worth, weight).
+# A knot's counts, worth and weight stand together in one entry, so that a step back brings back all of them at once.
 class Growth:
     def __init__(self, frame):
         self.frame = frame
@@ -27,7 +27,7 @@ class Growth:
     def entry(self, knot):
         return self.table.get(knot, (no_counts(self.frame), ONE, ONE))
 
-    # The product of the weights of a knot's branches, one of which is changed: a tuple (branch, entry).
+    # The changed branch comes beside, as a tuple (knot, entry), since the table does not have it yet.
     def branching(self, knot, changed):
         weights = []
         for letter in self.frame[0]:
@@ -37,7 +37,7 @@ class Growth:
                 weights.append(self.entry(knot + letter)[WEIGHT])
         return product(weights)
 
-    # What the sign would change if it came behind the text: tuples (knot, entry), the deepest first, the whole last.
+    # Tuples (knot, entry), the deepest first, since the weight of a knot is made of those of its branches.
     def changes(self, sign):
         place = self.frame[0].index(sign)
         path = elders_at(self.frame, self.text, len(self.text))

@@ -1,6 +1,6 @@
 """Packets: a frame and a text, pressed, in one text with a check."""
 
-from boughpress.bits import in_twos, number_of, stretch
+from boughpress.bits import bits_in_twos, number_in_twos, stretch
 from boughpress.errors import NoPacket
 from boughpress.frames import are_figures, are_letters, is_depth, make_frame
 from boughpress.press import MOST_SIGNS, press
@@ -18,7 +18,7 @@ def grouped(bits):
     told = ""
     for at in range(0, len(bits), GROUP_SIZE):
         group = bits[at:at + GROUP_SIZE].ljust(GROUP_SIZE, "0")
-        told += GROUP_SIGNS[number_of(group)]
+        told += GROUP_SIGNS[number_in_twos(group)]
     return told
 
 
@@ -56,11 +56,10 @@ def unpacked_length(text):
     return many
 
 
-# The bits of the groups, with those that fill up the last one.
-def unpacked_bits(groups):
+def filled_bits(groups):
     if not all([sign in GROUP_SIGNS for sign in groups]):
         raise NoPacket("a group is written by another sign")
-    return "".join([in_twos(GROUP_SIGNS.index(sign), GROUP_SIZE) for sign in groups])
+    return "".join([bits_in_twos(GROUP_SIGNS.index(sign), GROUP_SIZE) for sign in groups])
 
 
 def checked_body(packet):
@@ -77,8 +76,8 @@ def unwrap(packet):
     frame = unpacked_frame(depth, body[2:length_at])
     groups_at = length_at + LENGTH_SIZE
     many = unpacked_length(body[length_at:groups_at])
-    # Noughts that fill up a group leave the low of a stretch as it is.
-    text = text_at(frame, many, stretch(unpacked_bits(body[groups_at:]))[0])
+    # How many bits only fill up the last group is not told, but such noughts leave the low of the stretch as it is.
+    text = text_at(frame, many, stretch(filled_bits(body[groups_at:]))[0])
     if wrap(frame, text) != packet:
         raise NoPacket("no text has these groups")
     return (frame, text)

@@ -5,7 +5,7 @@ from boughpress.growing import grown
 from boughpress.ratios import NOUGHT, over, plus, times, under
 
 
-# The weights of the texts that have another letter, ahead of the sign in the letters' order, in its place.
+# Texts with a lesser letter in the place of the sign come ahead, whatever stands behind it.
 def weight_ahead(growth, sign):
     letters = growth.frame[0]
     told = NOUGHT
@@ -26,7 +26,7 @@ def span(frame, text, ahead=""):
     return (over(low, whole), over(growth.weight(), whole))
 
 
-# The letter in whose part, of those that lie one behind the other from the low on, the point lies; and that part's low.
+# The low of the letter's part is told with it, since the next letter's parts begin there.
 def letter_at(growth, low, point):
     letters = growth.frame[0]
     for letter in letters[:-1]:
@@ -38,10 +38,9 @@ def letter_at(growth, low, point):
     return (letters[-1], low)
 
 
-# The text of so many signs, behind the one ahead, in whose span the point, from 0 to below 1, lies.
 def text_at(frame, many, point, ahead=""):
     growth = grown(frame, ahead)
-    # Weighed by the text ahead, the point lies among the weights, and no step has to be divided.
+    # The point is brought among the weights once, so that no weight has to be divided.
     point = times(point, growth.weight())
     low = NOUGHT
     for turn in range(many):

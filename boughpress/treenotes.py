@@ -18,7 +18,7 @@ def sign_at(text, at):
     return text[at:at + 1]
 
 
-# The tree that is written from the place on, and the place behind it.
+# The place behind the tree is told with it, since the next branch is read from there on.
 def read_branch(letters, text, at, steps):
     if sign_at(text, at) == ".":
         return (None, at + 1)

@@ -158,6 +158,7 @@ class ReadTest(PressCase):
         self.assert_refused(NoPress, read, frame, 101, bits)
         self.assert_refused(NoPress, read, frame, 101, "")
         self.assert_refused(NoPress, read, frame, 10 ** 3999, bits)
+        self.assert_refused(NoPress, read, frame, -1, "")
         for size in (1, 50, 100):
             behind = press(frame, text[size:], text[:size])
             self.assert_refused(NoPress, read, frame, 101 - size, behind, text[:size])
